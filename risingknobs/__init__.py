@@ -1,0 +1,1 @@
+"""Risingknobs: when the best levels never go down."""
