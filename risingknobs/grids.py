@@ -21,11 +21,6 @@ def levels_of(text):
     return [int(word) for word in text.split(" ")]
 
 
-def text_of(levels):
-    """The text that tells some levels."""
-    return " ".join([str(level) for level in levels])
-
-
 def check_tops(tops):
     """Raises BadNumber if there is no grid with these tops."""
     if not 1 <= len(tops) <= MOST_KNOBS:
@@ -66,7 +61,7 @@ class Grid:
         return cls(*tops)
 
     def __str__(self):
-        return text_of(self.tops)
+        return " ".join([str(top) for top in self.tops])
 
     def __eq__(self, other):
         return isinstance(other, Grid) and self.tops == other.tops

@@ -1,9 +1,14 @@
 """Regions: sets of options with the lesser and the greater one of any two."""
 
 from risingknobs.errors import BadNumber, BadRegion, BadText, UnlikeGrids
-from risingknobs.grids import Grid, bad_word, levels_of, text_of
+from risingknobs.grids import Grid, bad_word, levels_of
 
 MOST_OPTIONS_TO_LIST = 9
+
+
+def text_of(levels):
+    """The text that tells some levels."""
+    return " ".join([str(level) for level in levels])
 
 
 def check_alike(first, second):

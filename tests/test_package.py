@@ -30,6 +30,46 @@ def files():
     return [(path, path.read_text(encoding="utf-8")) for path in sorted(FOLDER.glob("*.py"))]
 
 
+def is_call_of(node, *names):
+    """Whether this is a call of one of some functions by its bare name."""
+    return isinstance(node, ast.Call) and isinstance(node.func, ast.Name) and node.func.id in names
+
+
+def is_written_text(node):
+    return isinstance(node, ast.Constant) and isinstance(node.value, str)
+
+
+def is_join(node):
+    """Whether this is the join of a written text."""
+    return (isinstance(node, ast.Call) and isinstance(node.func, ast.Attribute) and node.func.attr == "join"
+            and is_written_text(node.func.value))
+
+
+def is_text(node):
+    """Whether `__str__` and `__repr__` may return this."""
+    return is_written_text(node) or isinstance(node, ast.JoinedStr) or is_call_of(node, "str", "repr") or is_join(node)
+
+
+def is_length(node):
+    """Whether `__len__` may return this."""
+    return is_call_of(node, "len") or (isinstance(node, ast.Constant) and isinstance(node.value, int))
+
+
+FORMS = {"__str__": is_text, "__repr__": is_text, "__len__": is_length}
+
+
+def rows_out_of_form(text):
+    """The rows of a file in which a method of FORMS returns something else, or does not end with a return."""
+    told = []
+    for node in ast.walk(ast.parse(text)):
+        if isinstance(node, ast.FunctionDef) and node.name in FORMS:
+            if not isinstance(node.body[-1], ast.Return):
+                told.append(node.lineno)
+            told += [inner.lineno for inner in ast.walk(node)
+                     if isinstance(inner, ast.Return) and not FORMS[node.name](inner.value)]
+    return told
+
+
 class TestInterface(unittest.TestCase):
 
     def test_functions_are_defined_where_they_are_listed(self):
@@ -70,6 +110,21 @@ class TestLanguage(unittest.TestCase):
                 self.assertNotIsInstance(node, ast.Import, path.name)
                 if isinstance(node, ast.ImportFrom):
                     self.assertTrue(node.module.startswith("risingknobs."), path.name)
+
+    def test_what_str_repr_and_len_return(self):
+        for path, text in files():
+            self.assertEqual(rows_out_of_form(text), [], path.name)
+
+    def test_other_returns_are_found(self):
+        right = ["'a'", "f'{self.n}'", "str(self.n)", "repr(self.n)", "' '.join(self.words)"]
+        wrong = ["text_of(self.n)", "self.text()", "self.name", "self.blank.join(self.words)", "'a' + 'b'", ""]
+        for name, good, bad in (("__str__", right, wrong), ("__repr__", right, wrong),
+                                ("__len__", ["len(self.n)", "3"], ["self.n", "count(self.n)", "len(self.n) + 1"])):
+            for form in good:
+                self.assertEqual(rows_out_of_form(f"def {name}(self):\n    return {form}\n"), [], form)
+            for form in bad:
+                self.assertEqual(rows_out_of_form(f"def {name}(self):\n    return {form}\n"), [2], form)
+        self.assertEqual(rows_out_of_form("def __str__(self):\n    if self.n:\n        return 'a'\n"), [1])
 
 
 if __name__ == "__main__":
