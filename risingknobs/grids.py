@@ -1,6 +1,6 @@
 """Grids: the knobs of a device, and the choices of their levels."""
 
-from risingknobs.errors import BadNumber, BadOption, BadText
+from risingknobs.errors import BadNumber, BadOption, BadText, UnlikeGrids
 
 MOST_KNOBS = 3
 MOST_TOP = 9
@@ -109,3 +109,9 @@ class Grid:
         """The ascending list of the options with one level more at one knob."""
         ups = [self.up(option, knob) for knob in range(len(self.tops))]
         return sorted([step for step in ups if step is not None])
+
+
+def check_alike(first, second):
+    """Raises UnlikeGrids if two grids are not equal."""
+    if first != second:
+        raise UnlikeGrids(first.tops, second.tops)

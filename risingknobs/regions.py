@@ -1,7 +1,7 @@
 """Regions: sets of options with the lesser and the greater one of any two."""
 
-from risingknobs.errors import BadNumber, BadRegion, BadText, UnlikeGrids
-from risingknobs.grids import Grid, bad_word, levels_of
+from risingknobs.errors import BadNumber, BadRegion, BadText
+from risingknobs.grids import Grid, bad_word, check_alike, levels_of
 
 MOST_OPTIONS_TO_LIST = 9
 
@@ -9,12 +9,6 @@ MOST_OPTIONS_TO_LIST = 9
 def text_of(levels):
     """The text that tells some levels."""
     return " ".join([str(level) for level in levels])
-
-
-def check_alike(first, second):
-    """Raises UnlikeGrids if two grids are not equal."""
-    if first != second:
-        raise UnlikeGrids(first.tops, second.tops)
 
 
 def ascending(grid, options):

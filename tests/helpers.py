@@ -78,3 +78,8 @@ def is_closed_by_hand(options):
 def subsets_by_hand(options):
     """All sets of at least one option, fewer options first, then in ascending order."""
     return [chosen for count in range(1, len(options) + 1) for chosen in itertools.combinations(options, count)]
+
+
+def rise_by_hand(first, second):
+    return all(lesser_by_hand(low, high) in first and greater_by_hand(low, high) in second
+               for low in first for high in second)

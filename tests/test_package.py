@@ -2,6 +2,7 @@
 
 import ast
 import importlib
+import inspect
 import pathlib
 import unittest
 
@@ -9,6 +10,9 @@ FOLDER = pathlib.Path(__file__).parent.parent / "risingknobs"
 
 FUNCTIONS = {
     "regions": ("hull", "box", "whole", "lies_under", "rise", "all_regions"),
+    "best": ("best", "bests", "top_best", "low_best", "climbs", "halved"),
+    "crossing": ("knob_witness", "setting_witness", "is_crossing", "fall", "is_fall"),
+    "lifting": ("lift_witness", "step_witness", "is_lifting", "price_fall"),
 }
 CLASSES = {
     "errors": {name: () for name in (
@@ -22,6 +26,22 @@ CLASSES = {
         "Region": ("__init__", "least", "greatest", "__and__", "__eq__", "__len__", "__contains__", "__iter__",
                    "__str__", "read"),
     },
+    "tables": {
+        "Table": ("__init__", "__call__", "row", "__add__", "part", "less", "__eq__", "__str__", "read"),
+        "Prices": ("__init__", "__call__", "rows", "__eq__"),
+    },
+}
+# What the interface lists of the arguments, where the other tests do not show all of it.
+SIGNATURES = {
+    "tables": {"Table": "(grid, rows)", "Table.__call__": "(self, option, setting=0)", "Table.row": "(self, setting)",
+               "Table.part": "(self, settings)", "Table.less": "(self, prices)", "Table.read": "(text)",
+               "Prices": "(grid, rows)", "Prices.__call__": "(self, option)", "Prices.rows": "(self)"},
+    "best": {"best": "(table, region, *, setting=0)", "bests": "(table, region)",
+             "top_best": "(table, region, *, setting=0)", "low_best": "(table, region, *, setting=0)",
+             "climbs": "(table, region)", "halved": "(table, region)"},
+    "crossing": {"knob_witness": "(table)", "setting_witness": "(table)", "is_crossing": "(table)", "fall": "(table)",
+                 "is_fall": "(table, first, second, early, late)"},
+    "lifting": {"lift_witness": "(table)", "step_witness": "(table)", "is_lifting": "(table)", "price_fall": "(table)"},
 }
 
 
@@ -85,6 +105,16 @@ class TestInterface(unittest.TestCase):
                 self.assertEqual(getattr(module, kind).__module__, module.__name__, kind)
                 for method in methods:
                     self.assertIn(method, vars(getattr(module, kind)), kind)
+
+
+    def test_arguments(self):
+        for name, signatures in SIGNATURES.items():
+            module = importlib.import_module("risingknobs." + name)
+            for words, signature in signatures.items():
+                told = module
+                for word in words.split("."):
+                    told = getattr(told, word)
+                self.assertEqual(str(inspect.signature(told)), signature, words)
 
 
 class TestLanguage(unittest.TestCase):

@@ -6,8 +6,8 @@ import unittest
 from risingknobs.errors import BadNumber, BadOption, BadRegion, BadText, UnlikeGrids
 from risingknobs.grids import Grid
 from risingknobs.regions import Region, all_regions, box, hull, lies_under, rise, whole
-from tests.helpers import (ProgramTest, greater_by_hand, is_closed_by_hand, lesser_by_hand, small_grids,
-                           subsets_by_hand)
+from tests.helpers import (ProgramTest, greater_by_hand, is_closed_by_hand, lesser_by_hand, rise_by_hand,
+                           small_grids, subsets_by_hand)
 
 SQUARE = ((0, 0), (0, 1), (1, 0), (1, 1))
 
@@ -18,11 +18,6 @@ def first_open_pair(options):
         if lesser_by_hand(first, second) not in options or greater_by_hand(first, second) not in options:
             return {"first": first, "second": second}
     return None
-
-
-def rise_by_hand(first, second):
-    return all(lesser_by_hand(low, high) in first and greater_by_hand(low, high) in second
-               for low in first for high in second)
 
 
 class TestRegion(ProgramTest):

@@ -1,0 +1,91 @@
+"""Crossing tables: the best options rise in all regions, and regions in which they do not."""
+
+from risingknobs.best import best
+from risingknobs.errors import BadSetting, NothingToShow
+from risingknobs.grids import check_alike
+from risingknobs.regions import Region, lies_under, rise
+
+
+def stays(gain, later):
+    """Whether the later gain is at least 0 if the first one is, and above 0 if the first one is."""
+    if gain > 0:
+        return later > 0
+    return gain < 0 or later >= 0
+
+
+def wavering_pair(grid, worths):
+    """The first two options that keep some worths from crossing in the knobs, or None."""
+    for x in grid.options:
+        for y in grid.options:
+            gain = worths[x] - worths[grid.lesser(x, y)]
+            if not stays(gain, worths[grid.greater(x, y)] - worths[y]):
+                return (x, y)
+    return None
+
+
+def knob_witness(table):
+    """The first (setting, x, y) for which a table does not cross in its knobs, or None."""
+    for setting in range(table.settings):
+        pair = wavering_pair(table.grid, table.worths(setting))
+        if pair is not None:
+            return (setting, pair[0], pair[1])
+    return None
+
+
+def pairs_below(grid):
+    """The ascending list of all two different options of which the first one is below the second one."""
+    return [(low, high) for low in grid.options for high in grid.options if low != high and grid.is_below(low, high)]
+
+
+def setting_witness(table):
+    """The first (early, late, low, high) for which a table does not cross in its settings, or None."""
+    pairs = pairs_below(table.grid)
+    told = [table.worths(setting) for setting in range(table.settings)]
+    for early, before in enumerate(told):
+        for late in range(early + 1, table.settings):
+            behind = told[late]
+            for low, high in pairs:
+                if not stays(before[high] - before[low], behind[high] - behind[low]):
+                    return (early, late, low, high)
+    return None
+
+
+def is_crossing(table):
+    """Whether a table crosses in its knobs and in its settings."""
+    return knob_witness(table) is None and setting_witness(table) is None
+
+
+# If x and y witness against the knobs, the best ones of x and the lesser one
+# do not lie under those of y and the greater one; and if low and high witness
+# against the settings, neither do those of these two at the two settings.
+
+
+def fall(table):
+    """Two regions and two settings that show that a table is not crossing."""
+    of_knobs = knob_witness(table)
+    if of_knobs is not None:
+        setting, x, y = of_knobs
+        first = Region(table.grid, [table.grid.lesser(x, y), x])
+        second = Region(table.grid, [y, table.grid.greater(x, y)])
+        return (first, second, setting, setting)
+    of_settings = setting_witness(table)
+    if of_settings is None:
+        raise NothingToShow()
+    early, late, low, high = of_settings
+    region = Region(table.grid, [low, high])
+    return (region, region, early, late)
+
+
+def is_fall(table, first, second, early, late):
+    """Whether two regions and two settings show that a table is not crossing."""
+    check_alike(table.grid, first.grid)
+    check_alike(table.grid, second.grid)
+    table.check_setting(early)
+    table.check_setting(late)
+    if late < early:
+        raise BadSetting(late)
+    if not lies_under(first, second):
+        return False
+    lower = best(table, first, setting=early)
+    upper = best(table, second, setting=late)
+    return not rise(table.grid, lower, upper)
