@@ -1,5 +1,6 @@
 """The best options of a region, and whether they climb with the setting."""
 
+from risingknobs.counting import pairs
 from risingknobs.grids import check_alike
 from risingknobs.regions import rise
 
@@ -41,14 +42,15 @@ def low_best(table, region, *, setting=0):
     return None
 
 
+def falling_settings(table, region):
+    """The ascending list of the (early, late), from which the best options of a region do not rise."""
+    told = bests(table, region)
+    return [(early, late) for early, late in pairs(len(told)) if not rise(table.grid, told[early], told[late])]
+
+
 def climbs(table, region):
     """Whether the best options of a region rise from each setting to each later one."""
-    told = bests(table, region)
-    for at, early in enumerate(told):
-        for late in told[at + 1:]:
-            if not rise(table.grid, early, late):
-                return False
-    return True
+    return len(falling_settings(table, region)) == 0
 
 
 def kept_for(table, settings, options):

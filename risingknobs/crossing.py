@@ -1,6 +1,7 @@
 """Crossing tables: the best options rise in all regions, and regions in which they do not."""
 
 from risingknobs.best import best
+from risingknobs.counting import pairs
 from risingknobs.errors import BadSetting, NothingToShow
 from risingknobs.grids import check_alike
 from risingknobs.regions import Region, lies_under, rise
@@ -39,14 +40,13 @@ def pairs_below(grid):
 
 def setting_witness(table):
     """The first (early, late, low, high) for which a table does not cross in its settings, or None."""
-    pairs = pairs_below(table.grid)
+    of_options = pairs_below(table.grid)
     told = [table.worths(setting) for setting in range(table.settings)]
-    for early, before in enumerate(told):
-        for late in range(early + 1, table.settings):
-            behind = told[late]
-            for low, high in pairs:
-                if not stays(before[high] - before[low], behind[high] - behind[low]):
-                    return (early, late, low, high)
+    for early, late in pairs(table.settings):
+        before, behind = told[early], told[late]
+        for low, high in of_options:
+            if not stays(before[high] - before[low], behind[high] - behind[low]):
+                return (early, late, low, high)
     return None
 
 

@@ -1,5 +1,6 @@
 """Grids: the knobs of a device, and the choices of their levels."""
 
+from risingknobs.counting import check_number
 from risingknobs.errors import BadNumber, BadOption, BadText, UnlikeGrids
 
 MOST_KNOBS = 3
@@ -99,8 +100,7 @@ class Grid:
     def up(self, option, knob):
         """The option with one level more at a knob, or None."""
         self.check([option])
-        if not 0 <= knob < len(self.tops):
-            raise BadNumber(knob)
+        check_number(knob, len(self.tops))
         if option[knob] == self.tops[knob]:
             return None
         return tuple([level + 1 if at == knob else level for at, level in enumerate(option)])

@@ -1,5 +1,6 @@
 """Lifting tables: crossing at all prices, and prices at which others are not."""
 
+from risingknobs.counting import pairs
 from risingknobs.crossing import fall
 from risingknobs.errors import NothingToShow
 from risingknobs.tables import Prices
@@ -17,14 +18,13 @@ def lift_together(grid, worths, option, one, other):
 
 def lift_witness(table):
     """The first (setting, option, one, other) at which two knobs do not lift one another, or None."""
-    knobs = len(table.grid.tops)
+    of_knobs = pairs(len(table.grid.tops))
     for setting in range(table.settings):
         worths = table.worths(setting)
         for option in table.grid.options:
-            for one in range(knobs):
-                for other in range(one + 1, knobs):
-                    if not lift_together(table.grid, worths, option, one, other):
-                        return (setting, option, one, other)
+            for one, other in of_knobs:
+                if not lift_together(table.grid, worths, option, one, other):
+                    return (setting, option, one, other)
     return None
 
 

@@ -1,9 +1,8 @@
 """Tables of what options are worth at settings, and prices of levels."""
 
+from risingknobs.counting import check_length, check_size, first_unfit
 from risingknobs.errors import BadNumber, BadSetting, BadText
 from risingknobs.grids import Grid, check_alike
-
-MOST_SETTINGS = 5
 
 # Sums may become longer than what Python writes or reads as a whole, so that
 # integers are written some digits at once, and read digit by digit.
@@ -52,13 +51,6 @@ def text_of_row(row):
     return " ".join([decimal(n) for n in row])
 
 
-def check_lengths(rows, lengths):
-    """Raises BadNumber with the length of the first row that has not as many items as is told for it."""
-    for row, length in zip(rows, lengths):
-        if len(row) != length:
-            raise BadNumber(len(row))
-
-
 def sums(first, second):
     """The list of the sums of the numbers of two rows."""
     return [one + other for one, other in zip(first, second)]
@@ -68,9 +60,9 @@ class Table:
     """What each option of a grid is worth at each setting."""
 
     def __init__(self, grid, rows):
-        if not 1 <= len(rows) <= MOST_SETTINGS:
-            raise BadNumber(len(rows))
-        check_lengths(rows, [len(grid) for _ in rows])
+        check_size(rows)
+        for row in rows:
+            check_length(row, len(grid))
         self.grid = grid
         self.settings = len(rows)
         self._rows = [list(row) for row in rows]
@@ -121,12 +113,9 @@ class Table:
         """The table of some settings, told in ascending order."""
         if len(settings) == 0:
             raise BadNumber(0)
-        ahead = -1
-        for setting in settings:
-            self.check_setting(setting)
-            if setting <= ahead:
-                raise BadSetting(setting)
-            ahead = setting
+        at = first_unfit(settings, self.settings)
+        if at is not None:
+            raise BadSetting(settings[at])
         return Table(self.grid, [self.row(setting) for setting in settings])
 
     def less(self, prices):
@@ -140,9 +129,9 @@ class Prices:
     """What each level of each knob costs."""
 
     def __init__(self, grid, rows):
-        if len(rows) != len(grid.tops):
-            raise BadNumber(len(rows))
-        check_lengths(rows, [top + 1 for top in grid.tops])
+        check_length(rows, len(grid.tops))
+        for row, top in zip(rows, grid.tops):
+            check_length(row, top + 1)
         self.grid = grid
         self._rows = [list(row) for row in rows]
 

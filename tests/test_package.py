@@ -13,6 +13,11 @@ FUNCTIONS = {
     "best": ("best", "bests", "top_best", "low_best", "climbs", "halved"),
     "crossing": ("knob_witness", "setting_witness", "is_crossing", "fall", "is_fall"),
     "lifting": ("lift_witness", "step_witness", "is_lifting", "price_fall"),
+    "stretches": ("stretches", "stretch_witness", "crosses_in_stretches", "falling_stretch", "peaks",
+                  "is_single_peaked"),
+    "signals": ("negative_minor", "is_ordered", "is_crossing_row"),
+    "payoffs": ("crosses_in_state", "expected", "chosen", "rises_behind", "payoff_fall", "is_payoff_fall"),
+    "rivals": ("is_rising", "always_rests", "falling_reply", "rests", "all_rivals", "restless", "climb", "descend"),
 }
 CLASSES = {
     "errors": {name: () for name in (
@@ -30,6 +35,12 @@ CLASSES = {
         "Table": ("__init__", "__call__", "row", "__add__", "part", "less", "__eq__", "__str__", "read"),
         "Prices": ("__init__", "__call__", "rows", "__eq__"),
     },
+    "signals": {
+        "Signals": ("__init__", "weight", "minor", "total", "row", "joined", "part", "__eq__"),
+    },
+    "rivals": {
+        "Player": ("__init__", "worth", "reply", "replies"),
+    },
 }
 # What the interface lists of the arguments, where the other tests do not show all of it.
 SIGNATURES = {
@@ -42,6 +53,19 @@ SIGNATURES = {
     "crossing": {"knob_witness": "(table)", "setting_witness": "(table)", "is_crossing": "(table)", "fall": "(table)",
                  "is_fall": "(table, first, second, early, late)"},
     "lifting": {"lift_witness": "(table)", "step_witness": "(table)", "is_lifting": "(table)", "price_fall": "(table)"},
+    "stretches": {"stretches": "(grid)", "stretch_witness": "(table)", "crosses_in_stretches": "(table)",
+                  "falling_stretch": "(table)", "peaks": "(table, setting)", "is_single_peaked": "(table, setting)"},
+    "signals": {"Signals": "(weights)", "Signals.weight": "(self, signal, state)", "Signals.row": "(self, signal)",
+                "Signals.minor": "(self, first, second, state, later)", "Signals.total": "(self, signal, values)",
+                "Signals.joined": "(self, first, second)", "Signals.part": "(self, states)",
+                "negative_minor": "(signals)", "is_ordered": "(signals)", "is_crossing_row": "(values)"},
+    "payoffs": {"crosses_in_state": "(payoff)", "expected": "(payoff, signals)", "chosen": "(payoff, signals)",
+                "rises_behind": "(payoff, signals)", "payoff_fall": "(signals)",
+                "is_payoff_fall": "(signals, payoff, early, late)"},
+    "rivals": {"Player": "(worths)", "Player.worth": "(self, own, other)", "Player.reply": "(self, other)",
+               "Player.replies": "(self)", "is_rising": "(player)", "falling_reply": "(player)",
+               "rests": "(player, rival)", "all_rivals": "(player)", "restless": "(player)",
+               "always_rests": "(player)", "climb": "(player, rival)", "descend": "(player, rival)"},
 }
 
 
@@ -105,7 +129,6 @@ class TestInterface(unittest.TestCase):
                 self.assertEqual(getattr(module, kind).__module__, module.__name__, kind)
                 for method in methods:
                     self.assertIn(method, vars(getattr(module, kind)), kind)
-
 
     def test_arguments(self):
         for name, signatures in SIGNATURES.items():
