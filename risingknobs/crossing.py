@@ -14,20 +14,27 @@ def stays(gain, later):
     return gain < 0 or later >= 0
 
 
-def wavering_pair(grid, worths):
-    """The first two options that keep some worths from crossing in the knobs, or None."""
+def wavering_pair(grid, lower, upper):
+    """The first x and y, of which x gains over the lesser one in the lower worths, and the greater one does not over y
+    in the upper ones; or None."""
     for x in grid.options:
         for y in grid.options:
-            gain = worths[x] - worths[grid.lesser(x, y)]
-            if not stays(gain, worths[grid.greater(x, y)] - worths[y]):
+            gain = lower[x] - lower[grid.lesser(x, y)]
+            if not stays(gain, upper[grid.greater(x, y)] - upper[y]):
                 return (x, y)
     return None
+
+
+def regions_between(grid, x, y):
+    """The region of x and the lesser one of x and y, and that of y and the greater one, which it lies under."""
+    return (Region(grid, [grid.lesser(x, y), x]), Region(grid, [y, grid.greater(x, y)]))
 
 
 def knob_witness(table):
     """The first (setting, x, y) for which a table does not cross in its knobs, or None."""
     for setting in range(table.settings):
-        pair = wavering_pair(table.grid, table.worths(setting))
+        worths = table.worths(setting)
+        pair = wavering_pair(table.grid, worths, worths)
         if pair is not None:
             return (setting, pair[0], pair[1])
     return None
@@ -65,8 +72,7 @@ def fall(table):
     of_knobs = knob_witness(table)
     if of_knobs is not None:
         setting, x, y = of_knobs
-        first = Region(table.grid, [table.grid.lesser(x, y), x])
-        second = Region(table.grid, [y, table.grid.greater(x, y)])
+        first, second = regions_between(table.grid, x, y)
         return (first, second, setting, setting)
     of_settings = setting_witness(table)
     if of_settings is None:

@@ -44,6 +44,11 @@ def options_below(tops):
     return tuple(options)
 
 
+def with_level(option, knob, level):
+    """The option with another level at a knob."""
+    return tuple([level if at == knob else own for at, own in enumerate(option)])
+
+
 class Grid:
     """One to three knobs, each with the levels from 0 to its top."""
 
@@ -103,7 +108,7 @@ class Grid:
         check_number(knob, len(self.tops))
         if option[knob] == self.tops[knob]:
             return None
-        return tuple([level + 1 if at == knob else level for at, level in enumerate(option)])
+        return with_level(option, knob, option[knob] + 1)
 
     def steps(self, option):
         """The ascending list of the options with one level more at one knob."""

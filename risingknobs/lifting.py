@@ -3,7 +3,7 @@
 from risingknobs.counting import pairs
 from risingknobs.crossing import fall
 from risingknobs.errors import NothingToShow
-from risingknobs.tables import Prices
+from risingknobs.tables import single_price
 
 
 def lift_together(grid, worths, option, one, other):
@@ -57,9 +57,7 @@ def shrinking_step(table):
 def step_price(table, setting, option, knob):
     """The prices that take from a step all that it is worth, and cost nothing at the other levels."""
     step = table.grid.up(option, knob)
-    rows = [[0 for _ in range(top + 1)] for top in table.grid.tops]
-    rows[knob][step[knob]] = table(step, setting) - table(option, setting)
-    return Prices(table.grid, rows)
+    return single_price(table.grid, knob, step[knob], table(step, setting) - table(option, setting))
 
 
 def price_fall(table):

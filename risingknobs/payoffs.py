@@ -8,7 +8,7 @@ from risingknobs.grids import Grid
 from risingknobs.regions import rise, whole
 from risingknobs.signals import negative_minor
 from risingknobs.stretches import check_one_knob
-from risingknobs.tables import Table
+from risingknobs.tables import Table, table_rows
 
 
 def crosses_in_state(payoff):
@@ -22,8 +22,8 @@ def expected(payoff, signals):
     check_one_knob(payoff.grid)
     if payoff.settings != signals.states:
         raise BadNumber(payoff.settings)
-    told = [payoff.row(state) for state in range(payoff.settings)]
-    of_levels = [[row[level] for row in told] for level in range(len(payoff.grid))]
+    rows = table_rows(payoff)
+    of_levels = [[row[level] for row in rows] for level in range(len(payoff.grid))]
     return Table(payoff.grid, [[signals.total(signal, values) for values in of_levels]
                                for signal in range(signals.count)])
 

@@ -4,6 +4,7 @@ from risingknobs.counting import check_length, pairs
 from risingknobs.crossing import stays
 from risingknobs.errors import NothingToShow
 from risingknobs.regions import box
+from risingknobs.tables import table_rows
 
 
 def check_one_knob(grid):
@@ -32,7 +33,7 @@ def keeps(before, behind, low, high):
 def stretch_witness(table):
     """The first (early, late, low, high) for which a table does not cross in stretches, or None."""
     check_one_knob(table.grid)
-    told = [table.row(setting) for setting in range(table.settings)]
+    told = table_rows(table)
     for early, late in pairs(table.settings):
         for low, high in pairs(len(table.grid)):
             if not keeps(told[early], told[late], low, high):

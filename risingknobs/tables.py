@@ -125,6 +125,11 @@ class Table:
         return Table(self.grid, [sums(row, losses) for row in self._rows])
 
 
+def table_rows(table):
+    """The list of the lists of the worths of all options at all settings."""
+    return [table.row(setting) for setting in range(table.settings)]
+
+
 class Prices:
     """What each level of each knob costs."""
 
@@ -146,3 +151,10 @@ class Prices:
     def rows(self):
         """The list with the list of the prices of its levels for each knob."""
         return [list(row) for row in self._rows]
+
+
+def single_price(grid, knob, level, price):
+    """The prices of which only that of one level of one knob is not 0."""
+    rows = [[0 for _ in range(top + 1)] for top in grid.tops]
+    rows[knob][level] = price
+    return Prices(grid, rows)

@@ -18,6 +18,7 @@ FUNCTIONS = {
     "signals": ("negative_minor", "is_ordered", "is_crossing_row"),
     "payoffs": ("crosses_in_state", "expected", "chosen", "rises_behind", "payoff_fall", "is_payoff_fall"),
     "rivals": ("is_rising", "always_rests", "falling_reply", "rests", "all_rivals", "restless", "climb", "descend"),
+    "leading": ("leads", "chain", "lead_witness", "lead_fall"),
 }
 CLASSES = {
     "errors": {name: () for name in (
@@ -40,6 +41,18 @@ CLASSES = {
     },
     "rivals": {
         "Player": ("__init__", "worth", "reply", "replies"),
+    },
+    "games": {
+        "Game": ("__init__", "payoff", "replies", "is_rest", "rests", "wavering", "is_crossing", "climb", "descend",
+                 "by_turns"),
+    },
+    "hidden": {
+        "Hidden": ("__init__", "tell", "told", "undo", "__len__", "low", "high", "many", "says", "best", "rests",
+                   "least_rest", "greatest_rest"),
+    },
+    "panel": {
+        "Panel": ("__init__", "change", "charge", "allow", "swap", "undo", "table", "region", "best", "supposed",
+                  "falls", "held", "changed", "__len__"),
     },
 }
 # What the interface lists of the arguments, where the other tests do not show all of it.
@@ -66,6 +79,24 @@ SIGNATURES = {
                "Player.replies": "(self)", "is_rising": "(player)", "falling_reply": "(player)",
                "rests": "(player, rival)", "all_rivals": "(player)", "restless": "(player)",
                "always_rests": "(player)", "climb": "(player, rival)", "descend": "(player, rival)"},
+    "games": {"Game": "(tables)", "Game.payoff": "(self, player)",
+              "Game.replies": "(self, player, option, *, setting=0)", "Game.is_rest": "(self, option, *, setting=0)",
+              "Game.rests": "(self, *, setting=0)", "Game.wavering": "(self, player)", "Game.is_crossing": "(self)",
+              "Game.climb": "(self, *, setting=0)", "Game.descend": "(self, *, setting=0)",
+              "Game.by_turns": "(self, players, *, setting=0)"},
+    "leading": {"leads": "(first, second, *, setting=0, behind=0)", "chain": "(*tables)",
+                "lead_witness": "(first, second, *, setting=0, behind=0)",
+                "lead_fall": "(first, second, *, setting=0, behind=0)"},
+    "hidden": {"Hidden": "(top, rival_top)", "Hidden.tell": "(self, fact)", "Hidden.told": "(self)",
+               "Hidden.undo": "(self)", "Hidden.low": "(self)", "Hidden.high": "(self)", "Hidden.many": "(self)",
+               "Hidden.says": "(self, level, value)", "Hidden.best": "(self, *levels)",
+               "Hidden.rests": "(self, rival)", "Hidden.least_rest": "(self, rival)",
+               "Hidden.greatest_rest": "(self, rival)"},
+    "panel": {"Panel": "(table)", "Panel.change": "(self, option, setting, worth)",
+              "Panel.charge": "(self, knob, level, price)", "Panel.allow": "(self, options)",
+              "Panel.swap": "(self, first, second)", "Panel.undo": "(self)", "Panel.table": "(self)",
+              "Panel.region": "(self)", "Panel.best": "(self)", "Panel.falls": "(self)", "Panel.held": "(self)",
+              "Panel.supposed": "(self, deeds)", "Panel.changed": "(self, steps)"},
 }
 
 
